@@ -1,0 +1,1 @@
+"""For which periods does a sampling profiler tell the truth?"""

@@ -1,0 +1,48 @@
+"""The interface at the end of the document, and the examples of the README."""
+
+import doctest
+import importlib
+import inspect
+import unittest
+from pathlib import Path
+
+ROOT = Path(__file__).resolve().parent.parent
+
+FUNCTIONS = {
+    'programs': {
+        'is_program': ['value'], 'length': ['program'], 'lines_of': ['program'], 'line_at': ['program', 'tick'],
+        'totals': ['program'], 'totals_between': ['program', 'first', 'stop'],
+        'nth_tick': ['program', 'name', 'number'], 'expanded': ['program'],
+    },
+    'classes': {
+        'class_table': ['program', 'modulus'], 'is_even': ['program', 'modulus'],
+        'uneven_pair': ['program', 'modulus'], 'shows_uneven': ['program', 'modulus', 'value'],
+    },
+}
+
+
+class InterfaceTest(unittest.TestCase):
+
+    def test_functions_stand_in_their_files_with_their_arguments(self):
+        for module_name, functions in FUNCTIONS.items():
+            module = importlib.import_module('evensamples.' + module_name)
+            for name, arguments in functions.items():
+                function = getattr(module, name)
+                self.assertTrue(inspect.isfunction(function))
+                self.assertEqual(function.__module__, module.__name__)
+                parameters = inspect.signature(function).parameters.values()
+                self.assertEqual([parameter.name for parameter in parameters], arguments)
+                for parameter in parameters:
+                    self.assertEqual(parameter.kind, parameter.POSITIONAL_OR_KEYWORD)
+
+
+class ReadmeTest(unittest.TestCase):
+
+    def test_examples(self):
+        results = doctest.testfile(str(ROOT / 'README.md'), module_relative=False)
+        self.assertGreater(results.attempted, 0)
+        self.assertEqual(results.failed, 0)
+
+
+if __name__ == '__main__':
+    unittest.main()
