@@ -14,3 +14,9 @@ def common_divisor(one, other):
     while other != 0:
         one, other = other, one % other
     return one
+
+
+def reduced(numerator, denominator):
+    """Return the quotient as a fraction; the numerator is an integer, the denominator one from 1."""
+    shared = common_divisor(denominator, abs(numerator))
+    return numerator // shared, denominator // shared

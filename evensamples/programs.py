@@ -98,10 +98,15 @@ def nth_tick(program, name, number):
 
 def expanded(program):
     """Return the names of all ticks, in order; raise TooLong above 2000 ticks."""
+    check_length(program)
+    return tuple(written_out(program))
+
+
+def check_length(program):
+    """Raise TooLong if the program has more than 2000 ticks."""
     size = length(program)
     if size > LONGEST:
         raise TooLong(size)
-    return tuple(written_out(program))
 
 
 def spent(items, rounds):

@@ -171,3 +171,51 @@ def times(counts, rounds, modulus):
         if digit == '1':
             out = followed(out, counts, modulus)
     return out
+
+
+def counts_before(items, stop, modulus):
+    """Return the same as counts_by_doubling, for the first stop ticks of the items."""
+    whole = (0, {})
+    for item in items:
+        size = size_of((item,))
+        if stop >= size:
+            part = counts_by_doubling((item,), modulus)
+        elif item[0] == 'line':
+            part = counts_by_doubling((('line', item[1], stop),), modulus)
+        else:
+            rounds, rest = divmod(stop, size_of(item[2]))
+            full = times(counts_by_doubling(item[2], modulus), rounds, modulus)
+            part = followed(full, counts_before(item[2], rest, modulus), modulus)
+        whole = followed(whole, part, modulus)
+        stop = max(stop - size, 0)
+    return whole
+
+
+def wide_programs(seed):
+    """Return programs of 20 items side by side and of 60 items in all, with ticks and rounds up to the limits."""
+    rng = Random(seed)
+
+    def line():
+        return ('line', rng.choice('abcdefg'), rng.choice((1, 2, rng.randint(1, MOST_TICKS), MOST_TICKS)))
+
+    def loop(inside):
+        return ('loop', rng.choice((1, 2, rng.randint(1, MOST_ROUNDS), MOST_ROUNDS)), tuple(inside))
+
+    lines = [line() for at in range(20)]
+    loops_of_two = [loop([line(), line()]) for at in range(20)]
+    # Three loops of 19 items: 60 items in all.
+    loops_of_many = [loop([line() for at in range(19)]) for turn in range(3)]
+    # Five deep, and 60 items in all.
+    inside = loop([loop([loop([line()])])])
+    inside = loop([line() for at in range(17)] + [inside])
+    inside = loop([inside] + [line() for at in range(18)])
+    deep = [line() for at in range(19)] + [inside]
+    return [tuple(lines), tuple(loops_of_two), tuple(loops_of_many), tuple(deep)]
+
+
+def items_in_all(items):
+    return sum(1 + (items_in_all(item[2]) if item[0] == 'loop' else 0) for item in items)
+
+
+def divisors(number):
+    return [divisor for divisor in range(1, number + 1) if number % divisor == 0]

@@ -7,7 +7,7 @@ from random import Random
 from evensamples.classes import class_table, is_even, shows_uneven, uneven_pair
 from evensamples.programs import expanded, length, lines_of, totals
 from tests.samples import (HALF, LONG, MOST_ROUNDS, MOST_TICKS, PAIRS, SHORT, any_values, counts_by_doubling,
-                           deep_programs, small_programs, ticks_one_by_one)
+                           deep_programs, divisors, small_programs, ticks_one_by_one)
 
 
 def table_tick_by_tick(program, modulus):
@@ -22,10 +22,6 @@ def table_tick_by_tick(program, modulus):
 def table_by_doubling(program, modulus):
     counts = counts_by_doubling(program, modulus)[1]
     return tuple(tuple(counts[name][place] for name in sorted(counts)) for place in range(modulus))
-
-
-def divisors(number):
-    return [divisor for divisor in range(1, number + 1) if number % divisor == 0]
 
 
 class ClassCase(unittest.TestCase):

@@ -18,6 +18,18 @@ FUNCTIONS = {
         'class_table': ['program', 'modulus'], 'is_even': ['program', 'modulus'],
         'uneven_pair': ['program', 'modulus'], 'shows_uneven': ['program', 'modulus', 'value'],
     },
+    'looks': {
+        'look_count': ['program', 'period', 'start'], 'looks': ['program', 'period', 'start'],
+        'seen': ['program', 'period', 'start', 'count'],
+    },
+    'flat': {
+        'floor_sum': ['count', 'step', 'shift', 'modulus'], 'flat_looks': ['program', 'period', 'start'],
+    },
+    'safety': {
+        'is_safe': ['program', 'period'], 'blockers': ['program'], 'is_blocker': ['program', 'value'],
+        'next_safe': ['program', 'bound'], 'count_safe': ['program', 'most'], 'nth_safe': ['program', 'number'],
+        'density': ['program'],
+    },
 }
 
 
