@@ -1,16 +1,19 @@
 """What the other files need of whole numbers."""
 
 
+def is_whole(value):
+    """Return, for any value, whether it is an integer."""
+    # True and False are instances of int, but they do not count as integers.
+    return isinstance(value, int) and not isinstance(value, bool)
+
+
 def is_integer_within(value, least, most):
     """Return, for any value, whether it is an integer from least to most."""
-    # True and False are instances of int, but they do not count as integers.
-    if not isinstance(value, int) or isinstance(value, bool):
-        return False
-    return least <= value <= most
+    return is_whole(value) and least <= value <= most
 
 
 def common_divisor(one, other):
-    """Return the greatest common divisor of two integers from 0, of which at most one is 0."""
+    """Return the greatest common divisor of two integers from 0, 0 if both are 0."""
     while other != 0:
         one, other = other, one % other
     return one

@@ -89,8 +89,7 @@ def totals_between(program, first, stop):
 
 def nth_tick(program, name, number):
     """Return the tick at which the line has its tick with this number; raise NoLine or NoTick."""
-    if name not in lines_of(program):
-        raise NoLine(name)
+    check_line(program, name)
     if not is_integer_within(number, 0, ticks_of(program, name) - 1):
         raise NoTick(number)
     return ticks_ahead(program, name, number)
@@ -100,6 +99,12 @@ def expanded(program):
     """Return the names of all ticks, in order; raise TooLong above 2000 ticks."""
     check_length(program)
     return tuple(written_out(program))
+
+
+def check_line(program, name):
+    """Raise NoLine if the name, any value, is not a line of the program."""
+    if name not in lines_of(program):
+        raise NoLine(name)
 
 
 def check_length(program):

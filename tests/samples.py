@@ -1,5 +1,6 @@
 """Programs and values for the tests, and slow, plain counts to compare with."""
 
+from fractions import Fraction
 from random import Random
 
 SHORT = (('line', 'a', 1), ('line', 'b', 2), ('line', 'a', 1))
@@ -219,3 +220,25 @@ def items_in_all(items):
 
 def divisors(number):
     return [divisor for divisor in range(1, number + 1) if number % divisor == 0]
+
+
+def seen_shares(ticks, period, start):
+    """Return the seen share of each line, by going from look to look until the looks come again."""
+    found = []
+    tick = start % len(ticks)
+    while not found or tick != start % len(ticks):
+        found.append(ticks[tick])
+        tick = (tick + period) % len(ticks)
+    return {name: Fraction(found.count(name), len(found)) for name in set(ticks)}
+
+
+def variants(value):
+    """Return values that differ from a tuple by a part removed, repeated, changed or wrapped."""
+    out = [list(value), (value,), [value], {'a': value}, value + value, value + (0,), value[::-1]]
+    for at in range(len(value)):
+        head, part, tail = value[:at], value[at], value[at + 1:]
+        out.append(head + tail)
+        out.append(head + (part, part) + tail)
+        for other in [(part,), [part], {'a': part}, None, True, False, 0, -1, '', (), [], {}, 'A']:
+            out.append(head + (other,) + tail)
+    return out

@@ -30,6 +30,18 @@ FUNCTIONS = {
         'next_safe': ['program', 'bound'], 'count_safe': ['program', 'most'], 'nth_safe': ['program', 'number'],
         'density': ['program'],
     },
+    'bias': {
+        'share': ['program', 'name'], 'seen_share': ['program', 'period', 'start', 'name'],
+        'most_biased': ['program', 'period', 'name'],
+    },
+    'telling': {
+        'look_alike': ['one', 'other', 'period'], 'told_apart': ['one', 'other', 'period'], 'telling': ['one', 'other'],
+    },
+    'plans': {
+        'weights': ['length', 'samplers'], 'shows_weights': ['length', 'samplers', 'value'],
+        'blind_pair': ['length', 'samplers'], 'shows_blind': ['length', 'samplers', 'value'],
+        'is_exact_cover': ['samplers'],
+    },
 }
 
 

@@ -5,7 +5,7 @@ import unittest
 
 from evensamples.programs import is_program
 from tests.samples import (HALF, LONG, MOST_ROUNDS, MOST_TICKS, PAIRS, SHORT, any_values, deep_programs, nested,
-                           small_programs)
+                           small_programs, variants)
 
 LINE = ('line', 'a', 1)
 
@@ -16,18 +16,6 @@ def loop(*items, rounds=2):
 
 def loops(depth):
     return nested(LINE, depth, loop)
-
-
-def variants(value):
-    """Return values that differ from a tuple by a part removed, repeated, changed or wrapped."""
-    out = [list(value), (value,), [value], {'a': value}, value + value, value + (0,), value[::-1]]
-    for at in range(len(value)):
-        head, part, tail = value[:at], value[at], value[at + 1:]
-        out.append(head + tail)
-        out.append(head + (part, part) + tail)
-        for other in [(part,), [part], {'a': part}, None, True, False, 0, -1, '', (), [], {}, 'A']:
-            out.append(head + (other,) + tail)
-    return out
 
 
 class IsProgramTest(unittest.TestCase):

@@ -6,6 +6,7 @@ from random import Random
 
 from evensamples.errors import NoLine, NoTick, TooLong
 from evensamples.programs import expanded, length, line_at, lines_of, nth_tick, totals, totals_between
+from tests.cases import ErrorCase
 from tests.samples import (HALF, LONG, MOST_ROUNDS, MOST_TICKS, PAIRS, SHORT, any_values, deep_programs, line_ticks,
                            place_on_a_path, size_of, small_programs, ticks_one_by_one)
 
@@ -14,17 +15,7 @@ def is_number_below(value, stop):
     return type(value) is int and 0 <= value < stop
 
 
-class ProgramCase(unittest.TestCase):
-
-    def assert_raises_with(self, error_class, field, value, call, *arguments):
-        with self.assertRaises(error_class) as caught:
-            call(*arguments)
-        self.assertIs(type(caught.exception), error_class)
-        kept = getattr(caught.exception, field)
-        self.assertEqual((type(kept), kept), (type(value), value))
-
-
-class ExampleTest(ProgramCase):
+class ExampleTest(ErrorCase):
 
     def test_examples(self):
         self.assertEqual([length(LONG), line_at(LONG, 3), totals(SHORT)],
@@ -41,7 +32,7 @@ class ExampleTest(ProgramCase):
         self.assertEqual(nth_tick(program, 'a', 10 ** 17), 300000000000000000)
 
 
-class SmallProgramTest(ProgramCase):
+class SmallProgramTest(ErrorCase):
 
     def test_length_lines_and_ticks(self):
         for program in small_programs(3, 300):
@@ -81,7 +72,7 @@ class SmallProgramTest(ProgramCase):
         self.assertEqual(totals_between(program, 1, 1), (('a', 0), ('aaaaaaaa', 0), ('ab', 0), ('b', 0)))
 
 
-class DeepProgramTest(ProgramCase):
+class DeepProgramTest(ErrorCase):
 
     def test_length_and_totals(self):
         for program in deep_programs(7, 50):
@@ -160,7 +151,7 @@ class DeepProgramTest(ProgramCase):
         self.assertEqual(nth_tick(program, 'idle', 4), length(program) - 1)
 
 
-class WrongValueTest(ProgramCase):
+class WrongValueTest(ErrorCase):
 
     def test_line_at_with_any_value(self):
         for program in (SHORT, LONG, (('line', 'a', 1),)):
@@ -206,7 +197,7 @@ class WrongValueTest(ProgramCase):
         self.assert_raises_with(TooLong, 'size', 10 ** 102 + 10 ** 90, expanded, deep_programs(7, 4)[3])
 
 
-class ArgumentTest(ProgramCase):
+class ArgumentTest(ErrorCase):
 
     def test_arguments_by_name(self):
         self.assertEqual(length(program=HALF), 6)

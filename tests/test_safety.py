@@ -7,25 +7,16 @@ from math import gcd
 from random import Random
 
 from evensamples.classes import is_even
-from evensamples.errors import SampleError, TooLarge, TooLong
+from evensamples.errors import TooLarge, TooLong
 from evensamples.programs import length
 from evensamples.safety import blockers, count_safe, density, is_blocker, is_safe, next_safe, nth_safe
+from tests.cases import ErrorCase
 from tests.samples import (HALF, LONG, MOST_ROUNDS, MOST_TICKS, PAIRS, SHORT, any_values, counts_by_doubling,
-                           deep_programs, divisors, size_of, small_programs, ticks_one_by_one, wide_programs)
+                           deep_programs, divisors, seen_shares, size_of, small_programs, ticks_one_by_one, wide_programs)
 
 SIX = (('line', 'a', 1), ('line', 'b', 5))
 ALTERNATING = (('loop', 1000, (('line', 'a', 1), ('line', 'b', 1))),)
 FAR = 10 ** 30
-
-
-def seen_shares(ticks, period, start):
-    """Return the seen share of each line, by going from look to look until the looks come again."""
-    found = []
-    tick = start % len(ticks)
-    while not found or tick != start % len(ticks):
-        found.append(ticks[tick])
-        tick = (tick + period) % len(ticks)
-    return {name: Fraction(found.count(name), len(found)) for name in set(ticks)}
 
 
 def is_safe_look_by_look(ticks, period):
@@ -61,17 +52,7 @@ def programs_with_blockers(seed, many, longest):
     return [program for program in programs if size_of(program) <= longest]
 
 
-class SafetyCase(unittest.TestCase):
-
-    def assert_raises_with(self, error_class, field, value, call, *arguments):
-        with self.assertRaises(error_class) as caught:
-            call(*arguments)
-        self.assertIs(type(caught.exception), error_class)
-        self.assertIsInstance(caught.exception, SampleError)
-        self.assertEqual(getattr(caught.exception, field), value)
-
-
-class ExampleTest(SafetyCase):
+class ExampleTest(ErrorCase):
 
     def test_examples(self):
         self.assertEqual([is_safe(SHORT, 6), is_safe(SHORT, 8), blockers(SHORT), blockers(HALF), density(SHORT)],
@@ -85,7 +66,7 @@ class ExampleTest(SafetyCase):
         self.assertEqual([count_safe(SIX, 12), next_safe(SIX, 8)], [4, 11])
 
 
-class IsSafeTest(SafetyCase):
+class IsSafeTest(ErrorCase):
 
     def test_against_the_definition(self):
         found = [0, 0]
@@ -167,7 +148,7 @@ class IsSafeTest(SafetyCase):
         self.assertIs(is_safe((('line', 'a', 5), ('line', 'b', 10 ** 12)), 7), True)
 
 
-class BlockerTest(SafetyCase):
+class BlockerTest(ErrorCase):
 
     def test_against_the_definition(self):
         several = 0
@@ -223,7 +204,7 @@ class BlockerTest(SafetyCase):
                 self.assertIs(is_safe(program, period), all(period % blocker for blocker in found))
 
 
-class TooLongTest(SafetyCase):
+class TooLongTest(ErrorCase):
 
     def calls(self):
         return ((blockers, ()), (next_safe, (1,)), (next_safe, (FAR,)), (count_safe, (0,)), (count_safe, (FAR,)),
@@ -322,7 +303,7 @@ class SafePeriodTest(unittest.TestCase):
                 self.assertEqual(count_safe(program, turns * size) * denominator, turns * size * numerator)
 
 
-class KnownProgramTest(SafetyCase):
+class KnownProgramTest(ErrorCase):
 
     def test_one_line_alone(self):
         for size in (1, 2, 6, 12, 97, 360, 2000):
