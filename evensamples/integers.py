@@ -1,5 +1,7 @@
 """What the other files need of whole numbers."""
 
+PIECE = 10 ** 64
+
 
 def is_whole(value):
     """Return, for any value, whether it is an integer."""
@@ -23,3 +25,14 @@ def reduced(numerator, denominator):
     """Return the quotient as a fraction; the numerator is an integer, the denominator one from 1."""
     shared = common_divisor(denominator, abs(numerator))
     return numerator // shared, denominator // shared
+
+
+def decimal(number):
+    """Return the decimal digits of an integer from 0, however many these are."""
+    # Python refuses to write out an integer with very many digits at once.
+    pieces = []
+    while number >= PIECE:
+        number, low = divmod(number, PIECE)
+        pieces.append(str(low).zfill(64))
+    pieces.append(str(number))
+    return "".join(pieces[::-1])

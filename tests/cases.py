@@ -5,6 +5,14 @@ import unittest
 from evensamples.errors import SampleError
 
 
+def outcome(call, *arguments):
+    """Return what the call returns, or the class and the fields of the error that it raises."""
+    try:
+        return 'returned', call(*arguments)
+    except SampleError as error:
+        return type(error), vars(error)
+
+
 class ErrorCase(unittest.TestCase):
 
     def assert_raises_with(self, error_class, field, value, call, *arguments):
@@ -18,10 +26,3 @@ class ErrorCase(unittest.TestCase):
         else:
             kept = getattr(caught.exception, field)
             self.assertEqual((type(kept), kept), (type(value), value))
-
-    def outcome(self, call, *arguments):
-        """Return what the call returns, or the class and the fields of the error that it raises."""
-        try:
-            return 'returned', call(*arguments)
-        except SampleError as error:
-            return type(error), vars(error)

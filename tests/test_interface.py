@@ -42,22 +42,51 @@ FUNCTIONS = {
         'blind_pair': ['length', 'samplers'], 'shows_blind': ['length', 'samplers', 'value'],
         'is_exact_cover': ['samplers'],
     },
+    'padding': {
+        'padded': ['program', 'ticks'], 'least_padding': ['program', 'period'],
+    },
+    'texts': {
+        'show_program': ['program'], 'read_program': ['text'],
+    },
+}
+CLASSES = {
+    'bench': {
+        'Bench': {
+            '__init__': ['program'], 'program': [], 'length': [], 'totals': [], 'insert': ['index', 'item'],
+            'replace': ['index', 'item'], 'delete': ['index'], 'wrap': ['first', 'stop', 'rounds'], 'undo': [],
+            'changes': [], 'safe': ['period'], 'looks': ['period', 'start'], 'copy': [], '__eq__': ['other'],
+        },
+    },
+    'desk': {
+        'Desk': {'__init__': ['text'], 'run': ['line']},
+    },
 }
 
 
 class InterfaceTest(unittest.TestCase):
 
+    def assert_function(self, function, module, arguments):
+        self.assertTrue(inspect.isfunction(function))
+        self.assertEqual(function.__module__, module.__name__)
+        parameters = inspect.signature(function).parameters.values()
+        self.assertEqual([parameter.name for parameter in parameters], arguments)
+        for parameter in parameters:
+            self.assertEqual(parameter.kind, parameter.POSITIONAL_OR_KEYWORD)
+
     def test_functions_stand_in_their_files_with_their_arguments(self):
         for module_name, functions in FUNCTIONS.items():
             module = importlib.import_module('evensamples.' + module_name)
             for name, arguments in functions.items():
-                function = getattr(module, name)
-                self.assertTrue(inspect.isfunction(function))
-                self.assertEqual(function.__module__, module.__name__)
-                parameters = inspect.signature(function).parameters.values()
-                self.assertEqual([parameter.name for parameter in parameters], arguments)
-                for parameter in parameters:
-                    self.assertEqual(parameter.kind, parameter.POSITIONAL_OR_KEYWORD)
+                self.assert_function(getattr(module, name), module, arguments)
+
+    def test_classes_define_their_methods_themselves(self):
+        for module_name, classes in CLASSES.items():
+            module = importlib.import_module('evensamples.' + module_name)
+            for name, methods in classes.items():
+                found = getattr(module, name)
+                self.assertEqual([found.__module__, found.__bases__], [module.__name__, (object,)])
+                for method, arguments in methods.items():
+                    self.assert_function(vars(found)[method], module, ['self'] + arguments)
 
 
 class ReadmeTest(unittest.TestCase):

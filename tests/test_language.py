@@ -14,6 +14,9 @@ BUILTINS = set('''len range enumerate zip min max sum abs sorted reversed int st
     ZeroDivisionError ArithmeticError OverflowError RuntimeError NotImplementedError AttributeError StopIteration
     NotImplemented'''.split())
 DOUBLE_UNDERSCORE = ('__init__', '__eq__')
+METHODS = set('''append clear copy count endswith extend find get index insert isalnum isalpha isdigit islower isspace
+    isupper items join keys ljust lower lstrip partition pop remove replace reverse rfind rjust rpartition rsplit rstrip
+    setdefault split splitlines startswith strip update upper values zfill bit_length'''.split())
 
 
 def files():
@@ -91,7 +94,10 @@ class TreeTest(unittest.TestCase):
         for path, tree in trees():
             stored = [node.id for node in ast.walk(tree) if isinstance(node, ast.Name) and isinstance(node.ctx, ast.Store)]
             stored += [node.arg for node in ast.walk(tree) if isinstance(node, ast.arg)]
-            stored += [node.name for node in ast.walk(tree) if isinstance(node, (ast.FunctionDef, ast.ClassDef))]
+            # A method may have the name of an imported function: it is no variable of the file.
+            methods = [part for node in ast.walk(tree) if isinstance(node, ast.ClassDef) for part in node.body]
+            stored += [node.name for node in ast.walk(tree)
+                       if isinstance(node, (ast.FunctionDef, ast.ClassDef)) and node not in methods]
             imported = [alias.name for node in ast.walk(tree) if isinstance(node, ast.ImportFrom) for alias in node.names]
             for name in stored:
                 self.assertNotIn(name, names_of_python, path)
@@ -99,6 +105,55 @@ class TreeTest(unittest.TestCase):
                 self.assertTrue(not name.startswith('_') or name in DOUBLE_UNDERSCORE, (path, name))
             read = {node.id for node in ast.walk(tree) if isinstance(node, ast.Name)} & names_of_python
             self.assertEqual(read - BUILTINS, set(), path)
+
+    def test_methods_and_attributes(self):
+        methods, attributes, called, read = set(), set(), set(), set()
+        for path, tree in trees():
+            nodes = list(ast.walk(tree))
+            methods |= {part.name for node in nodes if isinstance(node, ast.ClassDef) for part in node.body
+                        if isinstance(part, ast.FunctionDef)}
+            attributes |= {node.attr for node in nodes if isinstance(node, ast.Attribute) and isinstance(node.ctx, ast.Store)}
+            called |= {node.func.attr for node in nodes
+                       if isinstance(node, ast.Call) and isinstance(node.func, ast.Attribute)}
+            read |= {node.attr for node in nodes if isinstance(node, ast.Attribute) and isinstance(node.ctx, ast.Load)}
+        self.assertEqual(methods & attributes, set())
+        self.assertEqual(called - methods - METHODS, set())
+        self.assertEqual(read - called - attributes, set())
+        of_builtins = {name for kind in (str, int, list, tuple, dict, set, bytes) for name in dir(kind)}
+        self.assertEqual(attributes & of_builtins, set())
+        self.assertEqual((methods & of_builtins) - METHODS - set(DOUBLE_UNDERSCORE), set())
+
+    def test_errors_are_raised_and_caught_by_name(self):
+        for path, tree in trees():
+            for node in ast.walk(tree):
+                if isinstance(node, ast.Raise):
+                    self.assertIsInstance(node.exc.func, ast.Name, path)
+                if isinstance(node, ast.ExceptHandler):
+                    self.assertIsInstance(node.type, ast.Name, path)
+                    self.assertNotIn(node.type.id, BUILTINS, path)
+
+    def test_module_level(self):
+        for path, tree in trees():
+            names = []
+            for node in tree.body:
+                self.assertIsInstance(node, (ast.Expr, ast.ImportFrom, ast.Assign, ast.FunctionDef, ast.ClassDef), path)
+                if isinstance(node, ast.Expr):
+                    self.assertIs(node, tree.body[0])
+                if isinstance(node, ast.ImportFrom):
+                    names.extend(alias.name for alias in node.names)
+                elif isinstance(node, ast.Assign):
+                    names.append(node.targets[0].id)
+                elif isinstance(node, (ast.FunctionDef, ast.ClassDef)):
+                    names.append(node.name)
+            self.assertEqual(len(names), len(set(names)), path)
+
+    def test_no_two_files_import_from_each_other(self):
+        above = {path.stem: [node.module.split('.')[1] for node in tree.body if isinstance(node, ast.ImportFrom)]
+                 for path, tree in trees()}
+        while above:
+            free = [name for name in above if not [other for other in above[name] if other in above]]
+            self.assertTrue(free)
+            above = {name: above[name] for name in above if name not in free}
 
 
 if __name__ == '__main__':
