@@ -159,6 +159,25 @@ class EitherTest(unittest.TestCase):
                                     else is_blind(length, samplers, pair))
                     self.assertIs(value is None, pair is not None)
 
+    def test_classes_that_meet_crosswise(self):
+        # Classes of three prime periods: to take the one out of the other, they must be doubled.
+        crosswise = (((6, 1), (5, 0), (6, 4), (3, 0), (2, 1), (6, 2)), ((5, 1), (6, 4), (3, 2), (5, 0), (2, 0)),
+                     ((5, 4), (2, 1), (5, 1), (2, 0), (6, 1), (3, 2), (3, 1), (5, 0), (15, 12)),
+                     ((3, 2), (3, 2), (10, 4), (2, 0), (5, 0)), ((5, 0), (3, 1), (3, 2), (15, 12), (2, 0), (10, 4)),
+                     ((2, 1), (3, 0), (5, 4), (10, 7), (15, 1), (10, 3), (2, 0), (5, 1), (5, 0), (2, 0)),
+                     ((6, 4), (3, 0), (2, 1), (15, 10), (5, 1), (5, 0), (3, 2)),
+                     ((15, 9), (5, 0), (10, 6), (6, 3), (3, 1), (3, 2), (6, 4), (2, 0)))
+        rng = Random(508)
+        found = [0, 0]
+        for samplers in crosswise:
+            for turn in range(20):
+                value, pair = weights(30, samplers), blind_pair(30, samplers)
+                found[pair is None] += 1
+                self.assertIs(value is None, pair is not None)
+                self.assertTrue(is_weights(30, samplers, value) if pair is None else is_blind(30, samplers, pair))
+                samplers = tuple(rng.sample(samplers, len(samplers)))
+        self.assertGreater(min(found), 30)
+
     def test_periods_without_a_common_divisor_see_all_ticks(self):
         for length in LENGTHS:
             for period in (1, 10 ** 6 - 17, 999983, 49, 5 ** 8 * 2 + 1):
