@@ -65,26 +65,25 @@ class ExampleTest(BiasCase):
 
 class SmallProgramTest(BiasCase):
 
+    def assert_all_lines(self, program, period):
+        """Check all lines of a program by going from look to look."""
+        ticks = ticks_one_by_one(program)
+        rows = [seen_shares(ticks, period, start) for start in range(len(ticks))]
+        for name in set(ticks):
+            right = Fraction(ticks.count(name), len(ticks))
+            self.assert_bias(program, period, name, [row[name] for row in rows], right)
+
     def test_all_periods_and_starts(self):
         for program in small_programs(301, 60, longest=24) + [NESTED]:
-            ticks = ticks_one_by_one(program)
-            size = len(ticks)
-            for period in range(1, size + 4):
-                rows = [seen_shares(ticks, period, start) for start in range(size)]
-                for name in set(ticks):
-                    right = Fraction(ticks.count(name), size)
-                    self.assert_bias(program, period, name, [row[name] for row in rows], right)
+            for period in range(1, size_of(program) + 4):
+                self.assert_all_lines(program, period)
 
     def test_longer_programs(self):
         rng = Random(302)
         for program in small_programs(303, 60, longest=120):
-            ticks = ticks_one_by_one(program)
-            size = len(ticks)
+            size = size_of(program)
             for period in (rng.randint(1, 2 * size), size, rng.choice((2, 3, 4, 6, 12))):
-                rows = [seen_shares(ticks, period, start) for start in range(size)]
-                for name in set(ticks):
-                    right = Fraction(ticks.count(name), size)
-                    self.assert_bias(program, period, name, [row[name] for row in rows], right)
+                self.assert_all_lines(program, period)
 
     def test_starts_and_periods_far_beyond_the_length(self):
         rng = Random(304)
